@@ -57,3 +57,49 @@ def side_lists(many):
     for wants in product((None, 0, 1), repeat=many):
         out.append([(mark, want) for mark, want in enumerate(wants) if want is not None])
     return out
+
+
+def so_ways(many, rows, wishes=()):
+    """All ways, by the words of [4], in which all rows and wishes are so."""
+    return [
+        way for way in all_ways(many)
+        if all(comes_to(terms, way) >= least for terms, least in rows)
+        and all(way[mark] == want for mark, want in wishes)
+    ]
+
+
+def numbered_from_1(rows):
+    return list(enumerate(rows, start=1))
+
+
+def clause_of(*sides):
+    """The row that one of the sides is so."""
+    return plain([(mark, want, 1) for mark, want in sides], 1)
+
+
+def pigeons(birds, holes, by_pairs):
+    """Rows that each bird has a hole, and no two birds the same; of bird and hole by the mark bird * holes + hole."""
+    rows = [clause_of(*((bird * holes + hole, 1) for hole in range(holes))) for bird in range(birds)]
+    for hole in range(holes):
+        marks = [bird * holes + hole for bird in range(birds)]
+        if by_pairs:
+            rows += [clause_of((one, 0), (other, 0)) for one in marks for other in marks if one < other]
+        else:
+            rows.append(plain([(mark, 0, 1) for mark in marks], birds - 1))
+    return rows
+
+
+def halved(weights):
+    """Two rows that the weights of the marks that are 1 come to just half of all, rounded down."""
+    terms = [(mark, 1, weight) for mark, weight in enumerate(weights)]
+    half = sum(weights) // 2
+    return [plain(terms, half), plain([(mark, want, -weight) for mark, want, weight in terms], -half)]
+
+
+def mixed_rows(seed, many):
+    """A few rows for a search: loose ones and, now and then, one that is always so, never so, or the bar."""
+    rows = loose_rows(1 + seed % 6, many, seed)
+    odd_ones = {3: ALWAYS, 7: (((many - 1, 1, 2),), 3), 9: BAR}
+    if seed % 10 in odd_ones:
+        rows.insert(seed % (len(rows) + 1), odd_ones[seed % 10])
+    return rows

@@ -29,6 +29,13 @@ BARRED_NODES = (
 )
 
 
+METHODS = set(
+    "append clear copy count endswith extend find get index insert isalnum isalpha isdigit islower isspace isupper "
+    "items join keys ljust lower lstrip partition pop remove replace reverse rfind rjust rpartition rsplit rstrip "
+    "setdefault split splitlines startswith strip update upper values zfill bit_length isascii".split()
+)
+
+
 def tree_of(path):
     return ast.parse(path.read_text())
 
@@ -52,6 +59,35 @@ def own_names(tree, kinds):
             yield from (part.name for part in node.body if isinstance(part, ast.FunctionDef))
         if isinstance(node, ast.Attribute) and isinstance(node.ctx, ast.Store) and "attribute" in kinds:
             yield node.attr
+
+
+def module_names(tree):
+    """Each name that is bound at module level, as often as it is."""
+    for node in tree.body:
+        if isinstance(node, ast.ImportFrom):
+            yield from (alias.asname or alias.name for alias in node.names)
+        if isinstance(node, (ast.FunctionDef, ast.ClassDef)):
+            yield node.name
+        if isinstance(node, ast.Assign):
+            yield from (target.id for target in node.targets)
+
+
+def local_names(tree):
+    """Each name that is bound inside a function."""
+    for node in ast.walk(tree):
+        if isinstance(node, (ast.FunctionDef, ast.Lambda)):
+            for part in ast.walk(node):
+                if isinstance(part, ast.arg):
+                    yield part.arg
+                if isinstance(part, ast.Name) and isinstance(part.ctx, ast.Store):
+                    yield part.id
+
+
+def imports_of(tree):
+    """Pairs of the file that is imported from and the name."""
+    for node in tree.body:
+        if isinstance(node, ast.ImportFrom):
+            yield from ((node.module.split(".")[1], alias.name) for alias in node.names)
 
 
 class Language(unittest.TestCase):
@@ -80,6 +116,42 @@ class Language(unittest.TestCase):
                 if isinstance(node, ast.ImportFrom):
                     self.assertEqual((node.level, node.module.split(".")[0]), (0, "weighrow"), path)
                     self.assertTrue((PACKAGE / (node.module.split(".")[1] + ".py")).exists(), node.module)
+
+    def test_imports_name_the_file_that_defines_them(self):
+        for path in FILES:
+            for module, name in imports_of(tree_of(path)):
+                tree = tree_of(PACKAGE / (module + ".py"))
+                self.assertIn(name, set(module_names(tree)) - {told for file, told in imports_of(tree)}, (path, module))
+
+    def test_no_file_imports_itself_by_way_of_others(self):
+        ahead = {path.stem: {module for module, name in imports_of(tree_of(path))} for path in FILES}
+        while ahead:
+            free = [module for module in ahead if not ahead[module] & set(ahead)]
+            self.assertNotEqual(free, [], ahead)
+            for module in free:
+                del ahead[module]
+
+    def test_each_import_is_used(self):
+        for path in FILES:
+            tree = tree_of(path)
+            used = {node.id for node in ast.walk(tree) if isinstance(node, ast.Name)}
+            self.assertEqual({name for module, name in imports_of(tree)} - used, set(), path)
+
+    def test_names_are_bound_once_and_not_hidden(self):
+        for path in FILES:
+            tree = tree_of(path)
+            bound = list(module_names(tree))
+            self.assertEqual(len(bound), len(set(bound)), path)
+            classes = {node.name for node in tree.body if isinstance(node, ast.ClassDef)}
+            imported = {name for module, name in imports_of(tree)}
+            self.assertEqual(set(local_names(tree)) & (classes | imported), set(), path)
+
+    def test_methods_and_attributes_are_known(self):
+        trees = [tree_of(path) for path in FILES]
+        own = {name for tree in trees for name in own_names(tree, ("method", "attribute"))}
+        for path, tree in zip(FILES, trees):
+            asked = {node.attr for node in ast.walk(tree) if isinstance(node, ast.Attribute)}
+            self.assertEqual(asked - own - METHODS, set(), path)
 
     def test_statements_and_expressions(self):
         for path in FILES:
