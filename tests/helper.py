@@ -1,7 +1,8 @@
-"""What several tests use: ways, rows by rule, and rows that are far from plain."""
+"""What several tests use: ways, rows by rule, rows that are far from plain, and books."""
 
 from itertools import product
 
+from weighrow.book import Book
 from weighrow.rows import plain
 
 ALWAYS = ((), 0)
@@ -103,3 +104,31 @@ def mixed_rows(seed, many):
     if seed % 10 in odd_ones:
         rows.insert(seed % (len(rows) + 1), odd_ones[seed % 10])
     return rows
+
+
+def looks(book):
+    """All that a book tells, but for what a deed would tell."""
+    return (
+        book.marks(), book.rows(), book.wishes(), book.goal_terms(), book.coming(), book.word(), book.learnt(),
+        book.learnt_log(), book.answer(), book.clash(), book.least(), book.count(), len(book), repr(book),
+    )
+
+
+def book_of(many, rows, wishes=(), goal=()):
+    """A book in which these were put, wished and aimed at, one deed each."""
+    book = Book(many)
+    for terms, least in rows:
+        book.put(list(terms), least)
+    for mark, want in wishes:
+        book.wish(mark, want)
+    if goal:
+        book.goal(list(goal))
+    return book
+
+
+def run_to_end(book):
+    """Runs the book's search until it ends; told is its word."""
+    for step in range(100):
+        if book.run(1000) != "halted":
+            return book.word()
+    raise AssertionError("it does not end")

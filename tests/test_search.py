@@ -203,7 +203,7 @@ class Learnt(unittest.TestCase):
             search = Search(many, rows)
             to_end(search)
             given = numbered_from_1(rows)
-            logs = [search.hunt.workings.log_to(at) for at in search.hunt.gained]
+            logs = [search.hunt.workings.log_to([at]) for at in search.hunt.gained]
             self.assertEqual(
                 [(log.rows(given)[-1], log.leans()[-1]) for log in logs], search.learnt(),
             )

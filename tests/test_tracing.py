@@ -23,7 +23,7 @@ class WorkingsOfLines(unittest.TestCase):
         self.assertEqual(workings.row_at(2), (((1, 1, 1),), 2))
         self.assertEqual(workings.make(("weaken", 0, 0)), 3)
         self.assertEqual(workings.row_at(3), ALWAYS)
-        self.assertEqual(workings.log_to(3).lines(), [("row", 0), ("weaken", 0, 0)])
+        self.assertEqual(workings.log_to([3]).lines(), [("row", 0), ("weaken", 0, 0)])
         self.assertEqual(workings.leans_at([2, 0, 3]), [(0, 1), (0,), (0,)])
 
     def test_copies(self):

@@ -116,12 +116,21 @@ class Hunt:
 
     def log(self):
         """The Log of the row at which it ended."""
-        return self.workings.log_to(self.last)
+        return self.workings.log_to([self.last])
 
     def learnt(self):
         """The learnt rows, the eldest first, each with the numbers of the given rows on which it leans."""
         leans = self.workings.leans_at(self.gained)
         return [(self.workings.row_at(at), numbers) for at, numbers in zip(self.gained, leans)]
+
+    def learnt_log(self):
+        """A Log in which each learnt row is some line's."""
+        return self.workings.log_to(self.gained)
+
+    def learnt_by(self, numbers):
+        """The lines of those learnt rows that lean on none but the given rows of these numbers."""
+        leans = self.workings.leans_at(self.gained)
+        return [at for at, told in zip(self.gained, leans) if all([number in numbers for number in told])]
 
     def copied(self):
         """A Hunt that stands as this one does, with workings of its own."""
@@ -149,3 +158,13 @@ def new_hunt(choices, given, wishes=None):
     workings = Workings()
     standing = [workings.give(number, row) for number, row in given]
     return Hunt(choices, workings, standing, [] if wishes is None else wishes)
+
+
+def begun_anew(hunt, given, wishes):
+    """A Hunt at its beginning from these given rows, with what the other hunt learnt by none but them."""
+    workings = Workings()
+    standing = [workings.give(number, row) for number, row in given]
+    gained = workings.take_over(hunt.workings, hunt.learnt_by([number for number, row in given]))
+    other = Hunt(hunt.choices, workings, standing + gained, wishes)
+    other.gained = gained
+    return other

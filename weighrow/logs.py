@@ -46,12 +46,7 @@ class Log:
         """A Log of just that line and those of which it is made."""
         if at < 0 or at >= len(self.held):
             raise NoLine()
-        needed = {at: True}
-        for place in reversed(range(at + 1)):
-            if place in needed:
-                for name in lines_ahead(self.held[place], place):
-                    needed[name] = True
-        return Log(picked(self.held, sorted(needed)))
+        return cut_to(self.held, [at])
 
     def without(self, number):
         """A Log of just those lines that do not lean on the given row of that number."""
@@ -89,6 +84,21 @@ def lines_named(line):
 def lines_ahead(line, at):
     """The lines that the line of number at names and that stand ahead of it."""
     return [name for name in lines_named(line) if 0 <= name < at]
+
+
+def lines_needed(lines, places):
+    """The numbers of the lines at these places and of those of which they are made, rising."""
+    needed = {at: True for at in places}
+    for at in reversed(range(len(lines))):
+        if at in needed:
+            for name in lines_ahead(lines[at], at):
+                needed[name] = True
+    return sorted(needed)
+
+
+def cut_to(lines, places):
+    """A Log of just the lines at these places and those of which they are made."""
+    return Log(picked(lines, lines_needed(lines, places)))
 
 
 def checked_row(line, ahead, known):

@@ -1,8 +1,8 @@
 """Searching: a way in which all rows and wishes are so, or a log that shows that there is none."""
 
-from weighrow.bounds import MOST_TURNS, check_many, check_turns
+from weighrow.bounds import check_many, check_turns
 from weighrow.errors import NoWay
-from weighrow.hunt import HALTED, NO, YES, new_hunt, numbered_rows, rising_choices
+from weighrow.hunt import NO, YES, new_hunt, numbered_rows, rising_choices
 
 
 class Search:
@@ -53,12 +53,17 @@ class Search:
 
 def answer(many, rows, wishes=None):
     """("yes", way) or ("no", clash, log): what a Search of these tells at its end."""
-    search = Search(many, rows, wishes)
-    while search.word() == HALTED:
-        search.run(MOST_TURNS)
-    if search.word() == YES:
-        return (YES, search.way())
-    return (NO, search.clash(), search.log())
+    check_many(many)
+    return answer_by_numbers(many, numbered_rows(rows), wishes)
+
+
+def answer_by_numbers(many, given, wishes):
+    """The same of given rows, pairs (number, row), with a log from these numbers."""
+    hunt = new_hunt(rising_choices(many), given, wishes)
+    hunt.go_to_end()
+    if hunt.found == YES:
+        return (YES, hunt.way())
+    return (NO, hunt.clash(), hunt.log())
 
 
 def least_clash(many, rows, wishes):

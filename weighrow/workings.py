@@ -1,6 +1,6 @@
 """Workings: the lines of a log that grows, each with its row."""
 
-from weighrow.logs import Log, made_row
+from weighrow.logs import Log, cut_to, lines_needed, made_row, renamed
 
 
 class Workings:
@@ -28,14 +28,25 @@ class Workings:
         """The row of the line of that number."""
         return self.results[at]
 
-    def log_to(self, at):
-        """A Log of just the line of that number and those of which it is made."""
-        return Log(self.steps).cut(at)
+    def log_to(self, places):
+        """A Log of just these lines and those of which they are made."""
+        return cut_to(self.steps, places)
 
     def leans_at(self, places):
         """For each of these lines the numbers of the given rows on which it leans, rising."""
         told = Log(self.steps).leans()
         return [told[at] for at in places]
+
+    def take_over(self, other, places):
+        """Writes those lines of other workings, and those of which they are made; their new numbers are told.
+
+        The given rows of which they are made have been given here ahead of that.
+        """
+        news = {}
+        for at in lines_needed(other.steps, places):
+            line = renamed(other.steps[at], lambda name: news[name])
+            news[at] = self.steps.index(line) if line[0] == "row" else self.write(line, other.results[at])
+        return [news[at] for at in places]
 
     def copied(self):
         """New Workings of the same lines."""
