@@ -209,6 +209,20 @@ class Learnt(Checking):
         self.assertEqual({number for row, leans in book.learnt() for number in leans}, {3, 5})
         self.check_learnt(book)
 
+    def test_a_log_does_not_grow_by_beginning_anew(self):
+        book = book_of(9, LONG)
+        for mark in range(9):
+            book.wish(mark, mark % 2)
+            book.run(20)
+            book.free(mark)
+            book.run(20)
+        lines = book.learnt_log().lines()
+        self.assertEqual([line for line in lines if line[0] == "row"], [("row", 1), ("row", 2)])
+        self.check_learnt(book)
+        for mark in range(9):
+            book.wish(mark, 1)
+        self.assertEqual(book.learnt_log().lines(), lines)
+
     def test_what_is_learnt_is_of_use_again(self):
         book = book_of(9, LONG)
         run_to_end(book)

@@ -186,6 +186,11 @@ class Refused(unittest.TestCase):
         self.check(text_of(ROWS[:2] + ["5 1 a >= 1", "5 1 a >= 1"] + ROWS[3:]), 3)
         self.check(text_of(ROWS[:2] + ["7 1 a >= 1"] + ROWS[3:]), 3)
 
+    def test_numbers_from_1_on(self):
+        self.check("marks 4 8\n0 0 >= 0\nwish\ngoal\n", 1)
+        self.check("marks 4 8\n-1 0 >= 0\nwish\ngoal\n", 1)
+        self.check("marks 4 8\n0 0 >= 0\n1 0 >= 0\nwish\ngoal\n", 1)
+
     def test_numbers_not_below_next(self):
         self.check("marks 4 1\n1 0 >= 0\nwish\ngoal\n", 1)
         self.check("marks 4 2\n1 0 >= 0\n2 0 >= 0\nwish\ngoal\n", 2)
